@@ -1,0 +1,1 @@
+"""Signsleft: pages that name one another."""
