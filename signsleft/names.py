@@ -45,6 +45,13 @@ def target_of(thing):
     return name_of(name), part_of(part)
 
 
+def target_row(name, part):
+    """How target_of is handed a name and a part, or None."""
+    if part is None:
+        return name
+    return name + "#" + part
+
+
 def is_of(name, stem):
     """Whether a name is of a stem's family."""
     return is_in_family(name_of(name), name_of(stem))

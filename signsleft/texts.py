@@ -1,7 +1,17 @@
 """Texts: the names that they bear, and their parts."""
 
-from signsleft.errors import NoName, NoPart
+from signsleft.errors import NoName, NoPart, NoText
 from signsleft.names import part_of, target_of
+
+MOST_SIGNS_HANDED_IN = 400
+
+
+def need_text(thing):
+    """Refuses what cannot be handed in as the text of a page."""
+    if not isinstance(thing, str):
+        raise NoText("not a text")
+    if len(thing) > MOST_SIGNS_HANDED_IN:
+        raise NoText("a text that is handed in has at most 400 signs")
 
 
 def pieces(text):
