@@ -185,24 +185,24 @@ def after_sign(table, name, target, part):
 def after_straight(table):
     """The table behind the straightening of all signs."""
     later = table.later()
-    for name in table.entries:
-        if table.entries[name][0] == "sign":
-            later.entries[name] = straight_sign(table, name)
+    for name, entry in table.entries.items():
+        if entry[0] == "sign":
+            later.entries[name] = straight_sign(table, entry)
     if later.entries == table.entries:
         raise Same("each sign is straight already")
     return later
 
 
-def straight_sign(table, name):
-    """The sign that leads from a name at once to where its entry leads by signs alone."""
-    target = name
-    part = None
-    entry = table.entries.get(name)
-    while entry is not None and entry[0] == "sign":
-        target = entry[1]
+def straight_sign(table, sign):
+    """The sign that leads at once to where a sign leads by entries that are signs alone."""
+    target = sign[1]
+    part = sign[2]
+    onward = table.entries.get(target)
+    while onward is not None and onward[0] == "sign":
+        target = onward[1]
         if part is None:
-            part = entry[2]
-        entry = table.entries.get(target)
+            part = onward[2]
+        onward = table.entries.get(target)
     return "sign", target, part
 
 

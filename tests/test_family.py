@@ -36,6 +36,8 @@ class FamilyTest(SiteCase):
             self.refuse_row(NoRule, site, row)
         # NoRule is ahead of NoPage, and NoName ahead of NoRule.
         self.refuse_row(NoRule, site, "family q > q/r")
+        self.refuse_row(NoRule, site, "family q/r > q")
+        self.refuse_row(NoRule, site, "family q > q")
         self.refuse_deed(NoName, site, ("family", "a//", "a//"))
         self.refuse_deed(NoName, site, ("family", "a", "a//"))
 

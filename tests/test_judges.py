@@ -189,8 +189,8 @@ class AlikeTest(SiteCase):
         self.assert_unlike(["write a: ", "write b: "], ["write b: ", "write a: "])  # numbers
         self.assert_unlike(["write a: ", "away a"], ["write a: ", "write b: "])
 
-    def test_unlike_in_the_signs_of_parts_alone(self):
-        # Both come to the same entries and stands; but b's text had the part amid, so its sign is gone.
+    def test_unlike_in_the_signs_of_parts(self):
+        # Both come to the same entries and last stands; but the one text had the part amid, so its sign is gone.
         rows = ["write a: = p =\\n", "part a # p > b", "write a: = p =", "write a: x"]
         others = ["write a: = p =\\n", "part a # p > b", "write a: = q =", "write a: x"]
         site, other = site_of(*rows), site_of(*others)
