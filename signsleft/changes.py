@@ -184,19 +184,20 @@ def after_sign(table, name, target, part):
 
 def after_straight(table):
     """The table behind the straightening of all signs."""
-    later = table.later()
-    for name, entry in table.entries.items():
-        if entry[0] == "sign":
-            later.entries[name] = straight_sign(table, entry)
-    if later.entries == table.entries:
+    straight = {name: straight_entry(table, table.entries[name]) for name in table.entries}
+    if straight == table.entries:
         raise Same("each sign is straight already")
+    later = table.later()
+    later.entries = straight
     return later
 
 
-def straight_sign(table, sign):
-    """The sign that leads at once to where a sign leads by entries that are signs alone."""
-    target = sign[1]
-    part = sign[2]
+def straight_entry(table, entry):
+    """An entry; where it is a sign, one that leads at once to where it leads by entries that are signs alone."""
+    if entry[0] != "sign":
+        return entry
+    target = entry[1]
+    part = entry[2]
     onward = table.entries.get(target)
     while onward is not None and onward[0] == "sign":
         target = onward[1]
